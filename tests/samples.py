@@ -57,3 +57,99 @@ def random_book(seed, *, words=("in",), most_places=4, most_slots=2):
                 goal = draw.choice([place for place in places if place[1] <= len(sources)])
                 rules.append((name, word, case, goal[0], tuple(draw.sample(sources, goal[1]))))
     return Book(words=words, places=places, start="p0", rules=rules)
+
+
+def twice():
+    """A book that says yes if the last two names were the same."""
+    rules = [("s", "in", 0, "one", (0,)), ("one", "in", 0, "one", (0,)), ("one", "in", 1, "yes", (1,)),
+             ("yes", "in", 0, "one", (0,)), ("yes", "in", 1, "yes", (1,))]
+    places = [("s", 0, False), ("one", 1, False), ("yes", 1, True)]
+    return Book(words=["in"], places=places, start="s", rules=rules)
+
+
+def again(moves=(1,)):
+    """A book that says yes once its first name comes again, or with (0,) for moves the last one."""
+    places = [("start", 0, False), ("one", 1, False), ("again", 0, True)]
+    rules = [("start", "in", 0, "one", (0,)), ("one", "in", 0, "one", moves), ("one", "in", 1, "again", ()),
+             ("again", "in", 0, "again", ())]
+    return Book(words=["in"], places=places, start="start", rules=rules)
+
+
+def idle_book():
+    """The book of the interface with idle slots."""
+    places = [("start", 0, False), ("two", 2, False), ("end", 1, True), ("one", 1, False)]
+    rules = [("start", "in", 0, "one", (0,)), ("one", "in", 0, "two", (0, 1)), ("one", "in", 1, "one", (1,)),
+             ("two", "in", 0, "two", (1, 2)), ("two", "in", 1, "two", (1, 2)), ("two", "in", 2, "end", (2,)),
+             ("end", "in", 0, "end", (0,)), ("end", "in", 1, "end", (1,))]
+    return Book(words=["in"], places=places, start="start", rules=rules)
+
+
+def one_place(word="in", yes=False):
+    """A book with one place, one word and no slots."""
+    return Book(words=[word], places=[("p", 0, yes)], start="p", rules=[("p", word, 0, "p", ())])
+
+
+def kind_rows(words, many):
+    """The rows of all kinds with so many reads, in order, made without the program."""
+    rows = [[]]
+    for _ in range(many):
+        rows = [row + [(word, f"a{number}")] for row in rows for word in words
+                for number in range(1, len({name for _, name in row}) + 2)]
+    return rows
+
+
+def read_plainly(book, row, place=None, held=()):
+    """The place and the names behind a row, read without the program's runs."""
+    place = place or book.start
+    for word, name in row:
+        case = held.index(name) + 1 if name in held else 0
+        goal, moves = next((rule[3], rule[4]) for rule in book.rules if rule[:3] == (place, word, case))
+        held = tuple(held[source - 1] if source else name for source in moves)
+        place = goal
+    return place, held
+
+
+def answer_plainly(book, row, place=None, held=()):
+    return next(yes for name, _, yes in book.places if name == read_plainly(book, row, place, held)[0])
+
+
+def matchings_plainly(one, other):
+    """All matchings in the order of point 19, from the sets of all pairs."""
+    pairs = [(slot, matched) for slot in range(1, one + 1) for matched in range(1, other + 1)]
+    found = []
+    for some in range(2 ** len(pairs)):
+        told = tuple(pair for at, pair in enumerate(pairs) if some >> at & 1)
+        if len({slot for slot, _ in told}) == len({matched for _, matched in told}) == len(told):
+            found.append(told)
+    return sorted(found, key=lambda told: (len(told), [pair[0] for pair in told], [pair[1] for pair in told]))
+
+
+def behind_plainly(first, second, triple, word):
+    """All triples behind a triple by one word, by reading real names."""
+    place, other, told = triple
+    held = tuple(f"x{slot}" for slot in range(1, first.slots(place) + 1))
+    match = {matched: slot for slot, matched in told}
+    other_held = tuple(f"x{match[slot]}" if slot in match else f"y{slot}"
+                       for slot in range(1, second.slots(other) + 1))
+    names = list(held) + [name for name in other_held if name not in held] + ["z"]
+    found = []
+    for name in names:
+        goal, now = read_plainly(first, [(word, name)], place, held)
+        other_goal, other_now = read_plainly(second, [(word, name)], other, other_held)
+        pairs = tuple((now.index(held_name) + 1, other_now.index(held_name) + 1)
+                      for held_name in now if held_name in other_now)
+        found.append((name, (goal, other_goal, pairs)))
+    return found
+
+
+def alike_plainly(first, second):
+    """All triples of two books whose places are alike under their matching, by leaving out the others."""
+    left = {(one[0], other[0], told) for one in first.places for other in second.places if one[2] == other[2]
+            for told in matchings_plainly(one[1], other[1])}
+    goals = {triple: [goal for word in first.words for _, goal in behind_plainly(first, second, triple, word)]
+             for triple in left}
+    size = None
+    while size != len(left):
+        size = len(left)
+        left = {triple for triple in left if all(goal in left for goal in goals[triple])}
+    return left

@@ -25,19 +25,6 @@ popleft appendleft __init__""".split())
 BARRED = set("""type typing enum Enum IntEnum StrEnum Flag IntFlag Generic Protocol ABC ABCMeta namedtuple
 NamedTuple TypedDict TYPE_CHECKING abstractmethod""".split())
 
-# The names that the interface lists under each file which has landed.
-INTERFACE = {
-    "errors": ["FewestheldError", "InvalidBook", "InvalidRow", "InvalidQuestion", "NothingToUndo",
-               "NothingToRedo", "UnknownName", "InvalidNotation", "InvalidPaper", "TooMany", "NameInUse"],
-    "books": ["is_name", "Book"],
-    "notation": ["format_book", "parse_book"],
-}
-LISTED_METHODS = {
-    "Book": ["rules", "place_names", "check_word", "place", "slots", "says_yes", "rule", "with_answer",
-             "with_start", "with_rule", "turned", "renamed"],
-}
-
-
 def files():
     return sorted(name for name in os.listdir(PACKAGE) if name != "__pycache__")
 
@@ -174,16 +161,6 @@ class TestLanguage(unittest.TestCase):
         for _, tree in trees():
             for found in bound_names(tree):
                 self.assertRegex(found, r"\A(_|_?[A-Za-z][A-Za-z0-9_]*|__init__)\Z")
-
-    def test_interface_stands_in_its_files(self):
-        for module, names in INTERFACE.items():
-            body = ast.parse(source(module + ".py")).body
-            defined = {part.name for part in body if isinstance(part, (ast.FunctionDef, ast.ClassDef))}
-            self.assertLessEqual(set(names), defined)
-            for part in body:
-                if isinstance(part, ast.ClassDef) and part.name in LISTED_METHODS:
-                    methods = {node.name for node in part.body if isinstance(node, ast.FunctionDef)}
-                    self.assertLessEqual(set(LISTED_METHODS[part.name]), methods)
 
 
 if __name__ == "__main__":

@@ -1,0 +1,67 @@
+"""The names, arguments and places of what the interface lists, as far as it has landed."""
+
+import importlib
+import inspect
+import unittest
+
+from fewestheld.books import Book
+
+FUNCTIONS = {
+    "books": ["is_name(text)"],
+    "notation": ["format_book(book)", "parse_book(text)"],
+    "runs": ["run(book, row)", "trace(book, row)", "cases(book, row)", "answers(book, row)", "says(book, row)",
+             "names_of(row)", "kind_of(row)", "same_kind(one, other)", "renamed(row, table)",
+             "kinds_of_rows(book, many, *, limit=2000)"],
+    "matchings": ["matchings(one, other)", "is_matching(one, other, pairs)", "full(slots)", "turned(pairs)",
+                  "composed(first, second)", "kinds(one, other, pairs)",
+                  "behind(first, second, triple, word, kind)", "steps(first, second, triple)",
+                  "agree(first, second, triple)", "triple_of(first, second, row)",
+                  "reached(first, second, triple, *, limit=20000)", "is_closed(first, second, triples)"],
+    "alike": ["alike(one, other, *, limit=20000)", "difference(one, other, *, limit=20000)",
+              "closed_list(one, other, *, limit=20000)", "check_closed(one, other, triples)",
+              "check_difference(one, other, row)"],
+    "idle": ["reached_places(book)", "idle_slots(book, *, limit=20000)", "symmetries(book, place, *, limit=20000)"],
+}
+ERRORS = {
+    "FewestheldError": None, "InvalidBook": None, "InvalidRow": None, "InvalidQuestion": None,
+    "NothingToUndo": None, "NothingToRedo": None, "UnknownName": "name", "InvalidNotation": "line",
+    "InvalidPaper": "line", "TooMany": "limit", "NameInUse": "name",
+}
+METHODS = {
+    "Book": ["__init__(self, *, words, places, start, rules)", "check_word(self, word)", "place(self, name)",
+             "slots(self, name)", "says_yes(self, name)", "rule(self, name, word, case)",
+             "with_answer(self, name, yes)", "with_start(self, name)", "with_rule(self, rule)", "turned(self)",
+             "renamed(self, name, other)"],
+}
+
+
+def module(name):
+    return importlib.import_module("fewestheld." + name)
+
+
+class TestInterface(unittest.TestCase):
+    def test_functions(self):
+        for name, told in FUNCTIONS.items():
+            for line in told:
+                found = getattr(module(name), line.partition("(")[0])
+                self.assertEqual(found.__name__ + str(inspect.signature(found)), line)
+                self.assertEqual(found.__module__, "fewestheld." + name)
+
+    def test_errors(self):
+        for name, attribute in ERRORS.items():
+            found = getattr(module("errors"), name)
+            self.assertEqual(found.__module__, "fewestheld.errors")
+            if attribute:
+                self.assertEqual(vars(found(7))[attribute], 7)
+
+    def test_methods_stand_in_their_class(self):
+        for line in METHODS["Book"]:
+            found = vars(Book)[line.partition("(")[0]]
+            self.assertEqual(found.__name__ + str(inspect.signature(found)), line)
+        self.assertEqual(Book.__module__, "fewestheld.books")
+
+    def test_properties_stand_in_their_class(self):
+        for name in ("rules", "place_names"):
+            self.assertIsInstance(vars(Book)[name], property)
+            with self.assertRaises(AttributeError):
+                setattr(Book(words=["w"], places=[("p", 0, True)], start="p", rules=[("p", "w", 0, "p", ())]), name, ())
