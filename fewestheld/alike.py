@@ -27,8 +27,8 @@ def check_closed(one, other, triples):
     check_same_words(one, other)
     if not all([_is_triple(one, other, triple) for triple in triples]):
         return False
-    places = [(place, goal) for place, goal, pairs in triples if not pairs]
-    return (one.start, other.start) in places and is_closed(one, other, triples)
+    unmatched = [(place, opposite) for place, opposite, pairs in triples if not pairs]
+    return (one.start, other.start) in unmatched and is_closed(one, other, triples)
 
 
 def check_difference(one, other, row):

@@ -1,6 +1,7 @@
 """Checks of the rules of the language that a short walk over the code can see (L1 to L28)."""
 
 import ast
+import builtins
 import os
 import re
 import unittest
@@ -131,7 +132,7 @@ class TestLanguage(unittest.TestCase):
             own.update(node.name for node in functions(tree))
         for name, tree in trees():
             bound = bound_names(tree)
-            self.assertFalse(bound & BUILTINS, name)
+            self.assertFalse(bound & set(dir(builtins)), name)
             for node in ast.walk(tree):
                 if isinstance(node, ast.Name) and isinstance(node.ctx, ast.Load) and node.id not in bound:
                     self.assertIn(node.id, BUILTINS, name)
