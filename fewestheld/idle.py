@@ -2,6 +2,7 @@
 
 from itertools import permutations
 
+from fewestheld.matchings import full
 from fewestheld.searches import Search
 
 
@@ -27,10 +28,9 @@ def idle_slots(book, *, limit=20000):
 
 def symmetries(book, place, *, limit=20000):
     """Return the matchings of the slots that are not idle under which a place and itself are alike."""
-    slots = book.slots(place)
+    book.place(place)
     search = Search(book, limit)
-    idle = idle_at(book, search, place)
-    kept = [slot for slot in range(1, slots + 1) if slot not in idle]
+    kept = kept_at(book, search, place)
     found = []
     for order in permutations(kept):
         pairs = tuple(zip(kept, order))
@@ -41,13 +41,19 @@ def symmetries(book, place, *, limit=20000):
 
 def idle_at(book, search, place):
     """Return the idle slots of a place, as a search in this book finds them."""
-    slots = list(range(1, book.slots(place) + 1))
-    found = []
-    for slot in slots:
-        others = tuple([(one, one) for one in slots if one != slot])
-        if search.is_alike((place, place, others)):
-            found.append(slot)
-    return tuple(found)
+    slots = book.slots(place)
+    return tuple([slot for slot in range(1, slots + 1) if search.is_alike((place, place, all_but(slots, slot)))])
+
+
+def kept_at(book, search, place):
+    """Return the list of the slots of a place that are not idle, as a search in this book finds them."""
+    idle = idle_at(book, search, place)
+    return [slot for slot in range(1, book.slots(place) + 1) if slot not in idle]
+
+
+def all_but(slots, slot):
+    """Return the matching of a place with itself that matches each slot but this one with itself."""
+    return tuple([pair for pair in full(slots) if pair[0] != slot])
 
 
 def _goals(book, place):

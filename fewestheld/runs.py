@@ -109,6 +109,18 @@ def read_on(book, place, held, word, name):
     return goal, tuple([held[source - 1] if source else name for source in moves])
 
 
+def read_rest(book, place, held, rest):
+    """Return the place behind a rest that is read at a place that holds names, and the names held then."""
+    for word, name in rest:
+        place, held = read_on(book, place, held, word, name)
+    return place, held
+
+
+def kept_row(row):
+    """Return a row as a tuple of tuples."""
+    return tuple([tuple(read) for read in row])
+
+
 def _check_name(name):
     if not is_name(name):
         raise InvalidRow(f"this is no name: {name}")

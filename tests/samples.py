@@ -1,5 +1,6 @@
 """Books that several tests use."""
 
+import itertools
 import random
 
 from fewestheld.books import Book
@@ -84,6 +85,48 @@ def idle_book():
     return Book(words=["in"], places=places, start="start", rules=rules)
 
 
+def set_book():
+    """A book that keeps two names and says yes if one of them is read: its slots may be exchanged."""
+    places = [("s", 0, False), ("one", 1, False), ("both", 2, False), ("hit", 2, True)]
+    rules = [("s", "in", 0, "one", (0,)), ("one", "in", 0, "both", (1, 0)), ("one", "in", 1, "one", (1,))]
+    for name in ("both", "hit"):
+        rules += [(name, "in", 0, "both", (1, 2)), (name, "in", 1, "hit", (2, 1)), (name, "in", 2, "hit", (1, 2))]
+    return Book(words=["in"], places=places, start="s", rules=rules)
+
+
+def crossed_book():
+    """A book with two places that are one if the slots of the one are matched crosswise with those of the other.
+
+    It says yes once the first of the two names that are held is read again; the place far is not reached.
+    """
+    places = [("far", 1, True), ("cross", 2, False), ("s", 0, False), ("one", 1, False), ("pair", 2, False),
+              ("end", 0, True)]
+    rules = [("s", "in", 0, "one", (0,)), ("one", "in", 0, "pair", (1, 0)), ("one", "in", 1, "one", (1,)),
+             ("pair", "in", 0, "pair", (2, 0)), ("pair", "in", 1, "end", ()), ("pair", "in", 2, "cross", (2, 1)),
+             ("cross", "in", 0, "cross", (0, 1)), ("cross", "in", 1, "pair", (2, 1)), ("cross", "in", 2, "end", ()),
+             ("end", "in", 0, "end", ()), ("far", "in", 0, "far", (0,)), ("far", "in", 1, "one", (1,))]
+    return Book(words=["in"], places=places, start="s", rules=rules)
+
+
+def doubled(book, seed):
+    """A book that is alike, with two places for each one but the start, whose slots stand in drawn orders."""
+    draw = random.Random(seed)
+    sign = "q" if not any(name.endswith("q") for name in book.place_names) else "r"
+    copies = {name: [name] if name == book.start else [name, name + sign] for name in book.place_names}
+    order = {copy: draw.sample(range(1, book.slots(name) + 1), book.slots(name))
+             for name, told in copies.items() for copy in told}
+    rules = []
+    for place, word, case, goal, moves in book.rules:
+        for copy in copies[place]:
+            there = {old: at for at, old in enumerate(order[copy], 1)}
+            there[0] = 0
+            new = draw.choice(copies[goal])
+            rules.append((copy, word, there[case], new, [there[moves[old - 1]] for old in order[new]]))
+    places = [(copy, slots, yes) for name, slots, yes in book.places for copy in copies[name]]
+    draw.shuffle(places)
+    return Book(words=book.words, places=places, start=book.start, rules=rules)
+
+
 def one_place(word="in", yes=False):
     """A book with one place, one word and no slots."""
     return Book(words=[word], places=[("p", 0, yes)], start="p", rules=[("p", word, 0, "p", ())])
@@ -153,3 +196,45 @@ def alike_plainly(first, second):
         size = len(left)
         left = {triple for triple in left if all(goal in left for goal in goals[triple])}
     return left
+
+
+def all_there_are(book):
+    """How many triples of a book there are if each two places, and each one with itself, are taken once."""
+    return sum(len(matchings_plainly(one[1], other[1]))
+               for one, other in itertools.combinations_with_replacement(book.places, 2))
+
+
+def idle_plainly(book, name, good):
+    """The idle slots of a place, by all triples that are alike."""
+    slots = range(1, book.slots(name) + 1)
+    return tuple(slot for slot in slots if (name, name, tuple((one, one) for one in slots if one != slot)) in good)
+
+
+def kept_plainly(book, name, good):
+    idle = idle_plainly(book, name, good)
+    return tuple(slot for slot in range(1, book.slots(name) + 1) if slot not in idle)
+
+
+def rest_lengths(book):
+    """How many reads a shortest rest behind which the answers are unlike has, for each triple that has one."""
+    goals = {(one[0], other[0], told): None for one in book.places for other in book.places
+             for told in matchings_plainly(one[1], other[1])}
+    for triple in goals:
+        goals[triple] = [goal for word in book.words for _, goal in behind_plainly(book, book, triple, word)]
+    found = {triple: 0 for triple in goals if book.says_yes(triple[0]) != book.says_yes(triple[1])}
+    length = 0
+    while any(many == length for many in found.values()):
+        for triple in goals:
+            if triple not in found and any(found.get(goal) == length for goal in goals[triple]):
+                found[triple] = length + 1
+        length += 1
+    return found
+
+
+def reached_plainly(book):
+    """The set of the places that rows reach, by the goals of the rules alone."""
+    found, size = {book.start}, 0
+    while size != len(found):
+        size = len(found)
+        found.update(rule[3] for rule in book.rules if rule[0] in found)
+    return found

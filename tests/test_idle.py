@@ -5,27 +5,8 @@ from fewestheld.books import Book
 from fewestheld.errors import TooMany, UnknownName
 from fewestheld.idle import idle_slots, reached_places, symmetries
 from fewestheld.matchings import matchings
-from tests.samples import (again, alike_plainly, answer_plainly, idle_book, kind_rows, one_place, parts, random_book,
-                           twice, two_words)
-
-
-def all_there_are(book):
-    """How many triples there are of a book with itself."""
-    return sum(len(matchings(one[1], other[1])) for one in book.places for other in book.places)
-
-
-def idle_plainly(book, name, good):
-    slots = range(1, book.slots(name) + 1)
-    return tuple(slot for slot in slots if (name, name, tuple((one, one) for one in slots if one != slot)) in good)
-
-
-def set_book():
-    """A book that keeps two names and says yes if one of them is read: its slots may be exchanged."""
-    places = [("s", 0, False), ("one", 1, False), ("both", 2, False), ("hit", 2, True)]
-    rules = [("s", "in", 0, "one", (0,)), ("one", "in", 0, "both", (1, 0)), ("one", "in", 1, "one", (1,))]
-    for name in ("both", "hit"):
-        rules += [(name, "in", 0, "both", (1, 2)), (name, "in", 1, "hit", (2, 1)), (name, "in", 2, "hit", (1, 2))]
-    return Book(words=["in"], places=places, start="s", rules=rules)
+from tests.samples import (again, alike_plainly, all_there_are, answer_plainly, idle_book, idle_plainly, kind_rows,
+                           one_place, parts, random_book, set_book, twice, two_words)
 
 
 def books():

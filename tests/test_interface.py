@@ -21,6 +21,12 @@ FUNCTIONS = {
               "closed_list(one, other, *, limit=20000)", "check_closed(one, other, triples)",
               "check_difference(one, other, row)"],
     "idle": ["reached_places(book)", "idle_slots(book, *, limit=20000)", "symmetries(book, place, *, limit=20000)"],
+    "least": ["least(book, *, limit=20000)", "place_map(book, *, limit=20000)", "is_least(book, *, limit=20000)"],
+    "evidence": ["evidence(book, *, limit=20000)", "check_evidence(book, told)"],
+    "trials": ["trial(book, place, other, pairs, *, limit=20000)", "check_trial(book, place, other, pairs, told)"],
+    "memory": ["remembered(book, row, *, limit=20000)", "shown(book, row, name, *, limit=20000)",
+               "check_shown(book, row, name, told)", "most_remembered(book, *, limit=20000)",
+               "is_idle(book, place, slot, *, limit=20000)"],
 }
 ERRORS = {
     "FewestheldError": None, "InvalidBook": None, "InvalidRow": None, "InvalidQuestion": None,
@@ -28,7 +34,9 @@ ERRORS = {
     "InvalidPaper": "line", "TooMany": "limit", "NameInUse": "name",
 }
 METHODS = {
-    "Book": ["__init__(self, *, words, places, start, rules)", "check_word(self, word)", "place(self, name)",
+    ("evidence", "Evidence"): ["__init__(self, leads, apart, needed)"],
+    ("trials", "Trial"): ["__init__(self, first, second, rest)"],
+    ("books", "Book"): ["__init__(self, *, words, places, start, rules)", "check_word(self, word)", "place(self, name)",
              "slots(self, name)", "says_yes(self, name)", "rule(self, name, word, case)",
              "with_answer(self, name, yes)", "with_start(self, name)", "with_rule(self, rule)", "turned(self)",
              "renamed(self, name, other)"],
@@ -55,10 +63,16 @@ class TestInterface(unittest.TestCase):
                 self.assertEqual(vars(found(7))[attribute], 7)
 
     def test_methods_stand_in_their_class(self):
-        for line in METHODS["Book"]:
-            found = vars(Book)[line.partition("(")[0]]
-            self.assertEqual(found.__name__ + str(inspect.signature(found)), line)
-        self.assertEqual(Book.__module__, "fewestheld.books")
+        for (name, told), lines in METHODS.items():
+            defined = getattr(module(name), told)
+            self.assertEqual(defined.__module__, "fewestheld." + name)
+            for line in lines:
+                found = vars(defined)[line.partition("(")[0]]
+                self.assertEqual(found.__name__ + str(inspect.signature(found)), line)
+
+    def test_fields(self):
+        self.assertEqual(vars(module("evidence").Evidence([], [], [])), {"leads": [], "apart": [], "needed": []})
+        self.assertEqual(vars(module("trials").Trial([], [], [])), {"first": (), "second": (), "rest": ()})
 
     def test_properties_stand_in_their_class(self):
         for name in ("rules", "place_names"):
