@@ -27,6 +27,11 @@ FUNCTIONS = {
     "memory": ["remembered(book, row, *, limit=20000)", "shown(book, row, name, *, limit=20000)",
                "check_shown(book, row, name, told)", "most_remembered(book, *, limit=20000)",
                "is_idle(book, place, slot, *, limit=20000)"],
+    "counts": ["place_polynomials(book, reads)", "yes_polynomial(book, reads)", "yes_count(book, reads, names)",
+               "kind_numbers(book, reads)", "kind_count(book, reads)"],
+    "reach": ["ever_reached(book)", "never_reached(book)", "first_row_to(book, name)",
+              "first_answer(book, *, yes=True)", "fewest_names(book, *, yes=True)"],
+    "joined": ["joined(first, second, word)", "all_joined(books, word)"],
 }
 ERRORS = {
     "FewestheldError": None, "InvalidBook": None, "InvalidRow": None, "InvalidQuestion": None,

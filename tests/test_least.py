@@ -225,7 +225,7 @@ class TestBounds(unittest.TestCase):
             goal = (f"n{slots + 1}", every + (0,)) if slots < 6 else ("n6", (2, 3, 4, 5, 6, 0))
             rules.append((f"n{slots}", "in", 0) + goal)
             rules += [(f"n{slots}", "in", case, f"n{slots}", every) for case in every[1:]]
-            rules.append((f"n{slots}", "in", 1, "end", ()) if slots == 6 else (f"n{slots}", "in", 1, f"n{slots}", every))
+            rules.append((f"n{slots}", "in", 1) + (("end", ()) if slots == 6 else (f"n{slots}", every)))
         book = Book(words=["in"], places=places, start="s", rules=rules)
         self.assertIs(is_least(book), True)
         self.assertEqual(sizes(least(doubled(book, 3))), sizes(book))

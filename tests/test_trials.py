@@ -182,8 +182,9 @@ class TestErrors(unittest.TestCase):
     def test_rows_are_looked_at_one_by_one(self):
         strange, none, plain = [("in", "A"), ("up", "a")], [("in", "B")], [("in", "a")]
         other = [("out", "a")]
-        for rows, name in (((strange, none, other), "up"), ((none, strange, other), None), ((plain, strange, none), "up"),
-                           ((plain, none, other), None), ((plain, plain, other), "out"), ((plain, plain, none), None)):
+        for rows, name in (((strange, none, other), "up"), ((none, strange, other), None),
+                           ((plain, strange, none), "up"), ((plain, none, other), None),
+                           ((plain, plain, other), "out"), ((plain, plain, none), None)):
             with self.assertRaises(InvalidRow if name is None else UnknownName) as caught:
                 check_trial(again(), "one", "one", (), Trial(*rows))
             if name:
