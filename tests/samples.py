@@ -127,6 +127,21 @@ def doubled(book, seed):
     return Book(words=book.words, places=places, start=book.start, rules=rules)
 
 
+def wide_book():
+    """A book with so many places of six slots that are not one that more than 20000 matchings have to be looked at."""
+    places = [(f"f{held}", held, False) for held in range(6)] + [(f"r{at}", 6, at == 0) for at in range(40)]
+    rules = []
+    for held in range(6):
+        every = tuple(range(1, held + 1))
+        goal = f"f{held + 1}" if held < 5 else "r0"
+        rules += [(f"f{held}", "in", 0, goal, every + (0,))]
+        rules += [(f"f{held}", "in", case, f"f{held}", every) for case in every]
+    for at in range(40):
+        rules += [(f"r{at}", "in", case, f"r{(at + 1) % 40}", (2, 3, 4, 5, 6, 1)) for case in (0, 2, 3, 4, 5, 6)]
+        rules += [(f"r{at}", "in", 1, "r0", (1, 2, 3, 4, 5, 6))]
+    return Book(words=["in"], places=places, start="f0", rules=rules)
+
+
 def one_place(word="in", yes=False):
     """A book with one place, one word and no slots."""
     return Book(words=[word], places=[("p", 0, yes)], start="p", rules=[("p", word, 0, "p", ())])

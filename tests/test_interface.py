@@ -4,7 +4,8 @@ import importlib
 import inspect
 import unittest
 
-from fewestheld.books import Book
+from fewestheld.feeds import Feed
+from tests.samples import one_place
 
 FUNCTIONS = {
     "books": ["is_name(text)"],
@@ -32,6 +33,9 @@ FUNCTIONS = {
     "reach": ["ever_reached(book)", "never_reached(book)", "first_row_to(book, name)",
               "first_answer(book, *, yes=True)", "fewest_names(book, *, yes=True)"],
     "joined": ["joined(first, second, word)", "all_joined(books, word)"],
+    "feeds": ["first_parting(books, row)"],
+    "library": ["decide(kind, books, limit=20000)"],
+    "commands": ["split_words(line)", "row_of(words)", "is_command(words)"],
 }
 ERRORS = {
     "FewestheldError": None, "InvalidBook": None, "InvalidRow": None, "InvalidQuestion": None,
@@ -41,10 +45,19 @@ ERRORS = {
 METHODS = {
     ("evidence", "Evidence"): ["__init__(self, leads, apart, needed)"],
     ("trials", "Trial"): ["__init__(self, first, second, rest)"],
-    ("books", "Book"): ["__init__(self, *, words, places, start, rules)", "check_word(self, word)", "place(self, name)",
-             "slots(self, name)", "says_yes(self, name)", "rule(self, name, word, case)",
-             "with_answer(self, name, yes)", "with_start(self, name)", "with_rule(self, rule)", "turned(self)",
-             "renamed(self, name, other)"],
+    ("books", "Book"): ["__init__(self, *, words, places, start, rules)", "check_word(self, word)",
+                        "place(self, name)", "slots(self, name)", "says_yes(self, name)",
+                        "rule(self, name, word, case)", "with_answer(self, name, yes)", "with_start(self, name)",
+                        "with_rule(self, rule)", "turned(self)", "renamed(self, name, other)"],
+    ("feeds", "Feed"): ["__init__(self, books)", "push(self, word, name)", "push_all(self, row)", "place(self, name)",
+                        "held(self, name)", "answer(self, name)", "answers(self)", "split(self)",
+                        "forgotten(self, name, row)", "copied(self)", "reset(self)"],
+    ("library", "Library"): ["__init__(self)", "set_book(self, name, book)", "set_rule(self, name, rule)",
+                             "set_answer(self, name, place, yes)", "remove_book(self, name)",
+                             "ask(self, name, kind, names)", "drop(self, name)", "undo(self)", "redo(self)",
+                             "change_all(self, changes)", "book_names(self)", "question_names(self)",
+                             "book(self, name)", "question(self, name)", "answer(self, name)", "answers(self)"],
+    ("session", "Session"): ["__init__(self)", "run(self, text)"],
 }
 
 
@@ -78,9 +91,18 @@ class TestInterface(unittest.TestCase):
     def test_fields(self):
         self.assertEqual(vars(module("evidence").Evidence([], [], [])), {"leads": [], "apart": [], "needed": []})
         self.assertEqual(vars(module("trials").Trial([], [], [])), {"first": (), "second": (), "rest": ()})
+        self.assertEqual(vars(Feed([("b", one_place())]))["count"], 0)
+        library = module("library").Library()
+        self.assertEqual((vars(library)["decided"], vars(library)["kept"]), (0, 0))
+        self.assertIsInstance(vars(module("session").Session())["library"], module("library").Library)
 
     def test_properties_stand_in_their_class(self):
-        for name in ("rules", "place_names"):
-            self.assertIsInstance(vars(Book)[name], property)
-            with self.assertRaises(AttributeError):
-                setattr(Book(words=["w"], places=[("p", 0, True)], start="p", rules=[("p", "w", 0, "p", ())]), name, ())
+        for made, names in ((one_place(), ("rules", "place_names")), (Feed([("b", one_place())]), ("names",))):
+            for name in names:
+                self.assertIsInstance(vars(made.__class__)[name], property)
+                with self.assertRaises(AttributeError):
+                    setattr(made, name, ())
+
+
+if __name__ == "__main__":
+    unittest.main()

@@ -52,7 +52,7 @@ def bound_names(tree):
             names.add(node.name)
         elif isinstance(node, ast.arg):
             names.add(node.arg)
-        elif isinstance(node, ast.alias):
+        elif isinstance(node, ast.alias) or (isinstance(node, ast.ExceptHandler) and node.name):
             names.add(node.name)
     return names
 
@@ -113,7 +113,7 @@ class TestLanguage(unittest.TestCase):
 
     def test_statements_and_expressions(self):
         barred = (ast.AsyncFunctionDef, ast.Global, ast.Nonlocal, ast.Set, ast.SetComp, ast.Div, ast.AnnAssign,
-                  ast.Await, ast.Yield, ast.YieldFrom, ast.NamedExpr, ast.GeneratorExp, ast.Try, ast.With, ast.Match)
+                  ast.Await, ast.Yield, ast.YieldFrom, ast.NamedExpr, ast.GeneratorExp, ast.With, ast.Match)
         for name, tree in trees():
             for node in ast.walk(tree):
                 self.assertNotIsInstance(node, barred, (name, getattr(node, "lineno", 0)))
@@ -125,6 +125,18 @@ class TestLanguage(unittest.TestCase):
                     self.assertIsNone(node.annotation)
                 if isinstance(node, ast.FunctionDef):
                     self.assertTrue(all(part.id == "property" for part in node.decorator_list))
+
+    def test_only_own_errors_are_caught(self):
+        own = {node.name for node in ast.parse(source("errors.py")).body if isinstance(node, ast.ClassDef)}
+        for name, tree in trees():
+            for node in functions(tree):
+                handlers = [part for part in ast.walk(node) if isinstance(part, ast.ExceptHandler)]
+                caught = [part.name for part in handlers if part.name]
+                self.assertEqual(len(caught), len(set(caught)), (name, node.name))
+                for part in handlers:
+                    self.assertIsInstance(part.type, ast.Name, (name, node.name))
+                    self.assertIn(part.type.id, own, (name, node.name))
+                self.assertFalse([part for part in ast.walk(node) if isinstance(part, ast.Try) and part.finalbody])
 
     def test_only_listed_builtins_and_methods(self):
         own = set()
