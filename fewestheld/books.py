@@ -18,6 +18,11 @@ def is_name(text):
     return text[0] in LETTERS and all([sign in SIGNS for sign in text])
 
 
+def is_source(source, case, slots):
+    """Tell whether a number is a source in a case of a place with so many slots (point 5)."""
+    return _is_number(source, slots) and (source != 0 or case == 0)
+
+
 class Book:
     """A book of rules (points 3 to 6). It does not change."""
 
@@ -161,7 +166,7 @@ def _check_sources(sources, case, slots, goal_slots):
         raise InvalidBook("a rule has a source for each slot of its goal")
     seen = {}
     for source in sources:
-        if not _is_number(source, slots) or (source == 0 and case != 0):
+        if not is_source(source, case, slots):
             raise InvalidBook("a rule has a source that is none")
         if source in seen:
             raise InvalidBook("a rule has a source twice")

@@ -62,10 +62,7 @@ def behind(first, second, triple, word, kind):
     place, other, pairs = triple
     goal, moves = first.rule(place, word, kind[0])
     other_goal, other_moves = second.rule(other, word, kind[1])
-    same = {slot: matched for slot, matched in pairs}
-    # The name that is read has these two cases, so as a source it is the same name in both books.
-    same[kind[0]] = kind[1]
-    return (goal, other_goal, _matched_sources(same, moves, other_moves))
+    return (goal, other_goal, _matched_sources(same_sources(pairs, kind), moves, other_moves))
 
 
 def steps(first, second, triple):
@@ -140,6 +137,14 @@ def steps_from(first, second, triple):
     place, other, pairs = triple
     told = kinds(first.slots(place), second.slots(other), pairs)
     return [(word, kind, behind(first, second, triple, word, kind)) for word in first.words for kind in told]
+
+
+def same_sources(pairs, kind):
+    """Return a dict with the source of the second place for each one of the first place that is the same name."""
+    same = {slot: matched for slot, matched in pairs}
+    # The name that is read has these two cases, so as a source it is the same name in both books.
+    same[kind[0]] = kind[1]
+    return same
 
 
 def same_names(held, other_held):

@@ -40,6 +40,10 @@ class Search:
         self._keep_alike(waiting)
         return True
 
+    def rules_out(self, triple):
+        """Tell whether the places of a triple are seen not to be alike without a search."""
+        return not agree(self._book, self._book, triple)
+
     def way(self, triple):
         """Return the words and kinds of a shortest way from a triple to unlike answers, or None."""
         one, across = _one_side(triple)

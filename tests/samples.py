@@ -4,6 +4,7 @@ import itertools
 import random
 
 from fewestheld.books import Book
+from fewestheld.writers import Writer
 
 
 def small_parts():
@@ -108,23 +109,48 @@ def crossed_book():
     return Book(words=["in"], places=places, start="s", rules=rules)
 
 
-def doubled(book, seed):
-    """A book that is alike, with two places for each one but the start, whose slots stand in drawn orders."""
-    draw = random.Random(seed)
+def drawn_copies(book, draw):
+    """The names of the copies of each place, and for each copy a drawn order of the slots of its place."""
     sign = "q" if not any(name.endswith("q") for name in book.place_names) else "r"
     copies = {name: [name] if name == book.start else [name, name + sign] for name in book.place_names}
     order = {copy: draw.sample(range(1, book.slots(name) + 1), book.slots(name))
              for name, told in copies.items() for copy in told}
+    return copies, {copy: {0: 0, **{old: at for at, old in enumerate(slots, 1)}} for copy, slots in order.items()}
+
+
+def doubled(book, seed):
+    """A book that is alike, with two places for each one but the start, whose slots stand in drawn orders."""
+    draw = random.Random(seed)
+    copies, there = drawn_copies(book, draw)
     rules = []
     for place, word, case, goal, moves in book.rules:
         for copy in copies[place]:
-            there = {old: at for at, old in enumerate(order[copy], 1)}
-            there[0] = 0
             new = draw.choice(copies[goal])
-            rules.append((copy, word, there[case], new, [there[moves[old - 1]] for old in order[new]]))
+            old_slots = sorted(range(1, len(moves) + 1), key=there[new].get)
+            rules.append((copy, word, there[copy][case], new, [there[copy][moves[old - 1]] for old in old_slots]))
     places = [(copy, slots, yes) for name, slots, yes in book.places for copy in copies[name]]
     draw.shuffle(places)
     return Book(words=book.words, places=places, start=book.start, rules=rules)
+
+
+def doubled_writer(writer, seed):
+    """A writer that writes alike, with the book that is doubled."""
+    copies, there = drawn_copies(writer.book, random.Random(seed))
+    rows = [(copy, word, there[copy][case], [(told, there[copy][source]) for told, source in pairs])
+            for place, word, case, pairs in writer.rows for copy in copies[place]]
+    return Writer(doubled(writer.book, seed), rows)
+
+
+def random_writer(seed, *, words=("in",), most_places=4, most_slots=2, many=2):
+    """A writer whose book and rows are drawn, with up to so many pairs at each rule."""
+    draw = random.Random(seed)
+    book = random_book(seed, words=words, most_places=most_places, most_slots=most_slots)
+    rows = []
+    for place, word, case, _, _ in book.rules:
+        sources = list(range(1 if case else 0, book.slots(place) + 1))
+        pairs = [(draw.choice("gh"), draw.choice(sources)) for _ in range(draw.choice((0, 0, draw.randint(0, many))))]
+        rows.append((place, word, case, pairs))
+    return Writer(book, rows)
 
 
 def wide_book():

@@ -1,10 +1,12 @@
-"""The names, arguments and places of what the interface lists, as far as it has landed."""
+"""The names, arguments and places of what the interface lists."""
 
 import importlib
 import inspect
 import unittest
 
+from fewestheld.books import Book
 from fewestheld.feeds import Feed
+from fewestheld.writers import Writer
 from tests.samples import one_place
 
 FUNCTIONS = {
@@ -36,6 +38,16 @@ FUNCTIONS = {
     "feeds": ["first_parting(books, row)"],
     "library": ["decide(kind, books, limit=20000)"],
     "commands": ["split_words(line)", "row_of(words)", "is_command(words)"],
+    "texts": ["row_text(row)", "parse_row(text)", "triples_text(triples)", "unlike_text(row)",
+              "paper_text(one, other, *, limit=20000)", "parse_paper(text)", "check_text(one, other, text)"],
+    "compared": ["first_row(one, other, answers, *, limit=20000)", "first_rows(one, other, *, limit=20000)",
+                 "is_within(one, other, *, limit=20000)", "relation(one, other, *, limit=20000)",
+                 "widest(books, *, limit=20000)"],
+    "writers": ["written(writer, row)", "writing_list(first, second, *, limit=20000)",
+                "is_writing_list(first, second, triples)", "writing_difference(first, second, *, limit=20000)",
+                "unneeded_slots(writer, place, *, limit=20000)", "least_writer(writer, *, limit=20000)",
+                "is_least_writer(writer, *, limit=20000)"],
+    "logs": ["wrong_rows(book, log)", "is_right(book, log)", "clashes(log)", "fewest_changes(log)"],
 }
 ERRORS = {
     "FewestheldError": None, "InvalidBook": None, "InvalidRow": None, "InvalidQuestion": None,
@@ -57,6 +69,7 @@ METHODS = {
                              "ask(self, name, kind, names)", "drop(self, name)", "undo(self)", "redo(self)",
                              "change_all(self, changes)", "book_names(self)", "question_names(self)",
                              "book(self, name)", "question(self, name)", "answer(self, name)", "answers(self)"],
+    ("writers", "Writer"): ["__init__(self, book, rows)", "pairs(self, place, word, case)"],
     ("session", "Session"): ["__init__(self)", "run(self, text)"],
 }
 
@@ -80,6 +93,15 @@ class TestInterface(unittest.TestCase):
             if attribute:
                 self.assertEqual(vars(found(7))[attribute], 7)
 
+    def test_base_of_the_errors(self):
+        for name in ERRORS:
+            self.assertTrue(issubclass(getattr(module("errors"), name), module("errors").FewestheldError))
+        self.assertTrue(issubclass(module("errors").FewestheldError, ValueError))
+
+    def test_the_package_itself_defines_nothing(self):
+        with open(importlib.import_module("fewestheld").__file__, encoding="utf-8") as file:
+            self.assertEqual(file.read(), "")
+
     def test_methods_stand_in_their_class(self):
         for (name, told), lines in METHODS.items():
             defined = getattr(module(name), told)
@@ -92,12 +114,14 @@ class TestInterface(unittest.TestCase):
         self.assertEqual(vars(module("evidence").Evidence([], [], [])), {"leads": [], "apart": [], "needed": []})
         self.assertEqual(vars(module("trials").Trial([], [], [])), {"first": (), "second": (), "rest": ()})
         self.assertEqual(vars(Feed([("b", one_place())]))["count"], 0)
+        self.assertIsInstance(vars(Writer(one_place(), []))["book"], Book)
         library = module("library").Library()
         self.assertEqual((vars(library)["decided"], vars(library)["kept"]), (0, 0))
         self.assertIsInstance(vars(module("session").Session())["library"], module("library").Library)
 
     def test_properties_stand_in_their_class(self):
-        for made, names in ((one_place(), ("rules", "place_names")), (Feed([("b", one_place())]), ("names",))):
+        for made, names in ((one_place(), ("rules", "place_names")), (Feed([("b", one_place())]), ("names",)),
+                            (Writer(one_place(), []), ("rows",))):
             for name in names:
                 self.assertIsInstance(vars(made.__class__)[name], property)
                 with self.assertRaises(AttributeError):
